@@ -16,6 +16,7 @@ import (
 	"merlon/expr"
 	"merlon/kind"
 	"merlon/lex"
+	"merlon/sample"
 )
 
 const (
@@ -26,30 +27,17 @@ const (
 )
 
 var (
-	intT  = api.Type{Kind: api.Int}
-	textT = api.Type{Kind: api.Text}
-	boolT = api.Type{Kind: api.Bool}
+	intT, textT, boolT = sample.Int(), sample.Text(), sample.Bool()
+
+	list    = sample.List
+	fn      = sample.Func
+	local   = sample.Local
+	open    = sample.Open
+	record  = sample.Record
+	variant = sample.Variant
+	clone   = sample.CloneType
+	isSpot  = sample.IsSpot
 )
-
-func list(s api.Type) api.Type { return api.Type{Kind: api.List, Subs: []api.Type{s}} }
-
-func fn(subs ...api.Type) api.Type { return api.Type{Kind: api.Func, Subs: subs} }
-
-func local(mod, name string) api.Type { return api.Type{Kind: api.Local, Mod: mod, Name: name} }
-
-func open(pkg string, major int, mod, name string) api.Type {
-	return api.Type{Kind: api.Open, Pkg: pkg, Major: major, Mod: mod, Name: name}
-}
-
-// record and variant are of names with spaces between.
-
-func record(names string, subs ...api.Type) api.Type {
-	return api.Type{Kind: api.Record, Names: strings.Fields(names), Subs: subs}
-}
-
-func variant(names string, subs ...api.Type) api.Type {
-	return api.Type{Kind: api.Variant, Names: strings.Fields(names), Subs: subs}
-}
 
 func many(n int, s api.Type) []api.Type { return slices.Repeat([]api.Type{s}, n) }
 
@@ -194,11 +182,6 @@ func brief(l []api.Token) string {
 func sameType(a, b api.Type) bool { return kind.Same(a, b) }
 
 func zero(t api.Type) bool { return reflect.DeepEqual(t, api.Type{}) }
-
-func isSpot(err error, code api.Code, at int) bool {
-	var s *api.Spot
-	return errors.As(err, &s) && err == error(s) && s.At == at && s.Err == code && errors.Is(err, code)
-}
 
 // wantAt holds the type at a place, and the place behind.
 func wantAt(t *testing.T, l []api.Token, i int, want api.Type, end int) {
@@ -902,15 +885,6 @@ func TestTokensPlaces(t *testing.T) {
 		l[8].Text = "q"
 		wantAtSpot(t, l, 0, api.ErrForm, 8)
 	}
-}
-
-func clone(t api.Type) api.Type {
-	t.Names = slices.Clone(t.Names)
-	t.Subs = slices.Clone(t.Subs)
-	for i, s := range t.Subs {
-		t.Subs[i] = clone(s)
-	}
-	return t
 }
 
 // P5.3: the tokens stay as they are, what lies behind them in their memory too.

@@ -13,32 +13,25 @@ import (
 
 	"merlon/api"
 	"merlon/kind"
+	"merlon/sample"
 )
 
 var (
-	intT  = api.Type{Kind: api.Int}
-	textT = api.Type{Kind: api.Text}
-	boolT = api.Type{Kind: api.Bool}
+	intT, textT, boolT = sample.Int(), sample.Text(), sample.Bool()
+
+	list    = sample.List
+	fn      = sample.Func
+	local   = sample.Local
+	open    = sample.Open
+	record  = sample.Record
+	variant = sample.Variant
+	clone   = sample.CloneType
 )
-
-func list(s api.Type) api.Type { return api.Type{Kind: api.List, Subs: []api.Type{s}} }
-
-func fn(subs ...api.Type) api.Type { return api.Type{Kind: api.Func, Subs: subs} }
-
-func local(mod, name string) api.Type { return api.Type{Kind: api.Local, Mod: mod, Name: name} }
-
-func open(pkg string, major int, mod, name string) api.Type {
-	return api.Type{Kind: api.Open, Pkg: pkg, Major: major, Mod: mod, Name: name}
-}
 
 // named is a Record, or a Variant, of names with spaces between.
 func named(k int, names string, subs ...api.Type) api.Type {
 	return api.Type{Kind: k, Names: strings.Fields(names), Subs: subs}
 }
-
-func record(names string, subs ...api.Type) api.Type { return named(api.Record, names, subs...) }
-
-func variant(names string, subs ...api.Type) api.Type { return named(api.Variant, names, subs...) }
 
 // many is n times a type.
 func many(n int, s api.Type) []api.Type { return slices.Repeat([]api.Type{s}, n) }
@@ -626,16 +619,6 @@ func TestSame(t *testing.T) {
 		wantSame(t, o, clone(o), false)
 		wantSame(t, o, intT, false)
 	}
-}
-
-// clone is a type in memory of its own.
-func clone(t api.Type) api.Type {
-	t.Names = slices.Clone(t.Names)
-	t.Subs = slices.Clone(t.Subs)
-	for i, s := range t.Subs {
-		t.Subs[i] = clone(s)
-	}
-	return t
 }
 
 // emptied is a type with empty lists where there were nil ones, and the other way round.
