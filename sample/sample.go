@@ -66,6 +66,16 @@ func Module(name string, imports []api.Import, decls ...api.Decl) api.Module {
 	return api.Module{Name: name, Imports: imports, Decls: decls}
 }
 
+// CloneModule is a module with lists of its own, at all levels.
+func CloneModule(m api.Module) api.Module {
+	m.Imports = slices.Clone(m.Imports)
+	m.Decls = slices.Clone(m.Decls)
+	for i, d := range m.Decls {
+		m.Decls[i].Type = CloneType(d.Type)
+	}
+	return m
+}
+
 // IsSpot tells whether an error is a Spot itself, of a code, at a place.
 func IsSpot(err error, code api.Code, at int) bool {
 	var s *api.Spot

@@ -23,19 +23,18 @@ import (
 var (
 	intT, textT, boolT = sample.Int(), sample.Text(), sample.Bool()
 
-	list      = sample.List
-	fn        = sample.Func
-	local     = sample.Local
-	open      = sample.Open
-	record    = sample.Record
-	cloneType = sample.CloneType
-	imp       = sample.Import
-	opaque    = sample.Opaque
-	hidden    = sample.Hidden
-	alias     = sample.Alias
-	val       = sample.Val
-	module    = sample.Module
-	isSpot    = sample.IsSpot
+	list   = sample.List
+	fn     = sample.Func
+	local  = sample.Local
+	open   = sample.Open
+	record = sample.Record
+	imp    = sample.Import
+	opaque = sample.Opaque
+	hidden = sample.Hidden
+	alias  = sample.Alias
+	val    = sample.Val
+	module = sample.Module
+	isSpot = sample.IsSpot
 )
 
 func decls(l ...api.Decl) []api.Decl { return l }
@@ -639,20 +638,11 @@ func TestEnds(t *testing.T) {
 	wantNot(t, api.Module{})
 }
 
-func cloneModule(m api.Module) api.Module {
-	m.Imports = slices.Clone(m.Imports)
-	m.Decls = slices.Clone(m.Decls)
-	for i, d := range m.Decls {
-		m.Decls[i].Type = cloneType(d.Type)
-	}
-	return m
-}
-
 // P6.3: what is handed in stays as it is, what lies behind it in its memory too.
 func TestStays(t *testing.T) {
 	full := module("m", manyImports(8), manyDecls(30)...)
 	full.Decls[3] = alias("A", record("a b c", fn(intT, textT), list(local("m", "T")), open("p", 1, "m", "T")))
-	was := cloneModule(full)
+	was := sample.CloneModule(full)
 	for n := range 9 {
 		m := full
 		m.Imports = full.Imports[:n]
@@ -660,9 +650,9 @@ func TestStays(t *testing.T) {
 		syntax.May(m)
 		syntax.Print(m)
 	}
-	bad := cloneModule(full)
+	bad := sample.CloneModule(full)
 	bad.Decls[29].Type = list(api.Type{})
-	wasBad := cloneModule(bad)
+	wasBad := sample.CloneModule(bad)
 	wantNot(t, bad)
 	if !reflect.DeepEqual(full, was) || !reflect.DeepEqual(bad, wasBad) {
 		t.Error("a module was changed")
@@ -733,7 +723,7 @@ func spoilType(t api.Type) {
 func TestNewLists(t *testing.T) {
 	one, errOne := syntax.Parse(long)
 	two, errTwo := syntax.Parse(long)
-	was := cloneModule(two)
+	was := sample.CloneModule(two)
 	if errOne != nil || errTwo != nil {
 		t.Fatal(errOne, errTwo)
 	}
