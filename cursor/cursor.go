@@ -7,6 +7,7 @@ import (
 
 	"merlon/api"
 	"merlon/ident"
+	"merlon/lex"
 )
 
 // Cursor stands at a token, or behind all. It keeps what is amiss first, and
@@ -107,6 +108,21 @@ func Read[T any](c *Cursor, at func([]api.Token, int) (T, int, error)) T {
 	}
 	c.at = end
 	return x
+}
+
+// Parse reads a text by read; or tells lex's error, or what is amiss first.
+func Parse[T any](s string, read func(*Cursor) T) (T, error) {
+	var zero T
+	l, err := lex.Tokens(s)
+	if err != nil {
+		return zero, err
+	}
+	c := New(l, 0)
+	x := read(c)
+	if c.err != nil {
+		return zero, c.err
+	}
+	return x, nil
 }
 
 // A token counts by its Kind and by its Text: one that is right in one of them

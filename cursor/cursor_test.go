@@ -180,6 +180,28 @@ func TestRead(t *testing.T) {
 	wantErr(t, c, api.ErrDeep, 2)
 }
 
+func TestParse(t *testing.T) {
+	two := func(c *cursor.Cursor) []string { return []string{c.Word(cursor.Small), c.Word(cursor.Small)} }
+	for _, s := range []string{"a b", "a b C", "\n a # 1\n\tb"} {
+		if got, err := cursor.Parse(s, two); !slices.Equal(got, []string{"a", "b"}) || err != nil {
+			t.Errorf("%q: %q, %v", s, got, err)
+		}
+	}
+	var s *api.Spot
+	for text, want := range map[string]api.Spot{"": {At: 0, Err: api.ErrForm}, "a": {At: 1, Err: api.ErrForm}, "a B": {At: 1, Err: api.ErrForm}, "A b": {At: 0, Err: api.ErrForm}, "a b $": {At: 4, Err: api.ErrForm}, "$ B": {At: 0, Err: api.ErrForm}} {
+		if got, err := cursor.Parse(text, two); got != nil || !errors.As(err, &s) || *s != want {
+			t.Errorf("%q: %q, %v; want %v", text, got, err, &want)
+		}
+	}
+	long := "a b" + strings.Repeat(" ", api.MaxText-3)
+	if got, err := cursor.Parse(long, two); len(got) != 2 || err != nil {
+		t.Errorf("the longest text: %q, %v", got, err)
+	}
+	if got, err := cursor.Parse(long+" ", two); got != nil || err != api.ErrLarge {
+		t.Errorf("a longer text: %q, %v", got, err)
+	}
+}
+
 // A word is told as a copy, and the tokens stay as they are.
 func TestMemory(t *testing.T) {
 	l := tokens(t, strings.Clone("word ( 1"))

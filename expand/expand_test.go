@@ -410,16 +410,8 @@ func badTypes() []api.Type {
 		shared = sample.Func(shared, shared)
 	}
 	return []api.Type{{}, {Kind: -1}, {Kind: 10}, {Kind: api.Local}, sample.Local("", "t"), sample.Local("M", "T"), sample.Local("", "Int"), {Kind: api.Int, Name: "T"}, sample.List(api.Type{}),
-		nested(32, sample.Int()), sample.Func(), sample.Func(slices.Repeat([]api.Type{sample.Int()}, 21)...), sample.Record("b a", sample.Int(), sample.Int()), sample.Open("p", 0, "m", "T"),
+		sample.Nested(32, sample.Int()), sample.Func(), sample.Func(slices.Repeat([]api.Type{sample.Int()}, 21)...), sample.Record("b a", sample.Int(), sample.Int()), sample.Open("p", 0, "m", "T"),
 		{Kind: api.Local, Name: "T", Pkg: "p"}, {Kind: api.Variant}, sized(501), in[0], shared}
-}
-
-// nested is a type of n levels around another one.
-func nested(n int, o api.Type) api.Type {
-	for range n {
-		o = sample.List(o)
-	}
-	return o
 }
 
 // sized is a plain type of so many types, 2 at least.
@@ -444,7 +436,7 @@ func TestNotPlain(t *testing.T) {
 		// What isn't named may be as it is.
 		want(t, "import q 1 n as r opaque T alias U = {a: r.S, b: r.T}", env, "(r.S, T) -> r.U", "(Int, <p 1 m T>) -> Text")
 	}
-	for _, o := range []api.Type{sized(500), nested(31, sample.Record("")), sample.Variant("A", sample.Open("p", 1, "m", "T"))} {
+	for _, o := range []api.Type{sized(500), sample.Nested(31, sample.Record("")), sample.Variant("A", sample.Open("p", 1, "m", "T"))} {
 		env := []api.Iface{{Pkg: "q", Major: 1, Mod: "n", Types: []api.Named{{Name: "T", Type: o}}}}
 		want(t, "import q 1 n as r", env, "r.T", textOf(o))
 	}
@@ -589,16 +581,16 @@ func TestLarge(t *testing.T) {
 		}
 	}
 	for depth := 1; depth <= 32; depth++ {
-		c, all := ways(t, nested(depth-1, sample.Int()))
+		c, all := ways(t, sample.Nested(depth-1, sample.Int()))
 		for _, name := range all {
 			for n := max(30, depth); n <= min(34, depth+31); n++ {
-				c.t = nested(n-depth, name)
+				c.t = sample.Nested(n-depth, name)
 				wantLarge(c, n > 32)
 				// Not the first branch alone is asked, nor the last one.
 				if n > depth && depth < 32 {
-					c.t = nested(n-depth-1, sample.Func(name, sample.Int(), sample.Record("")))
+					c.t = sample.Nested(n-depth-1, sample.Func(name, sample.Int(), sample.Record("")))
 					wantLarge(c, n > 32)
-					c.t = nested(n-depth-1, sample.Func(sample.Int(), name, sample.Int()))
+					c.t = sample.Nested(n-depth-1, sample.Func(sample.Int(), name, sample.Int()))
 					wantLarge(c, n > 32)
 				}
 			}
@@ -621,7 +613,7 @@ func TestLarge(t *testing.T) {
 	}
 	// What isn't come to isn't asked: B alone is too great.
 	c := of(t, "import q 1 n as r alias A = Int alias B = (A) -> Int opaque T", nil, "(A, T) -> A")
-	c.m.Decls[1].Type = nested(31, sample.Local("", "A"))
+	c.m.Decls[1].Type = sample.Nested(31, sample.Local("", "A"))
 	wantLarge(c, false)
 	c.t = sample.Local("", "B")
 	wantLarge(c, false)
@@ -693,7 +685,7 @@ func TestWhichFirst(t *testing.T) {
 		code api.Code
 	}{{"Nowhere", api.ErrName}, {"s.T", api.ErrName}, {"r.U", api.ErrNone}, {"r.O", api.ErrNone}, {"N", api.ErrNone}, {"L", api.ErrLarge}, {"r.T", 0}, {"T", 0}}
 	c := of(t, "import q 1 n as r opaque T alias L = Int alias N = {a: T, b: List(r.U)}", []api.Iface{iface(t, "q", 1, "n", "T = Int", "O = T")}, "Int")
-	c.m.Decls[1].Type = nested(31, sample.Local("", "L0"))
+	c.m.Decls[1].Type = sample.Nested(31, sample.Local("", "L0"))
 	c.m.Decls = append(c.m.Decls, sample.Alias("L0", sample.List(sample.Int())))
 	for _, x := range parts {
 		for _, y := range parts {
@@ -1098,7 +1090,7 @@ func TestPlain(t *testing.T) {
 		c.t = anyType(r, 1+r.Intn(6), nil)
 		wantType(t, c, textOf(c.t))
 	}
-	for _, o := range []api.Type{sized(500), sized(499), nested(31, sample.Int()), sample.Record(""), {Kind: api.Record, Names: []string{}, Subs: []api.Type{}}} {
+	for _, o := range []api.Type{sized(500), sized(499), sample.Nested(31, sample.Int()), sample.Record(""), {Kind: api.Record, Names: []string{}, Subs: []api.Type{}}} {
 		wantType(t, call{module(t, "opaque T alias A = A0 opaque A0"), "p", 1, nil, o}, textOf(o))
 	}
 }
@@ -1122,7 +1114,7 @@ func TestEachPlace(t *testing.T) {
 			}
 		}
 		for n := range api.MaxDepth {
-			c.t = nested(n, typed(t, local))
+			c.t = sample.Nested(n, typed(t, local))
 			wantHold(t, c)
 		}
 	}

@@ -11,7 +11,6 @@ import (
 	"unsafe"
 
 	"merlon/api"
-	"merlon/expr"
 	"merlon/ident"
 	"merlon/iface"
 	"merlon/kind"
@@ -19,15 +18,6 @@ import (
 	"merlon/scope"
 	"merlon/syntax"
 )
-
-func typed(t *testing.T, s string) api.Type {
-	t.Helper()
-	o, err := expr.Parse(s)
-	if err != nil {
-		t.Fatalf("Parse(%q): %v", s, err)
-	}
-	return o
-}
 
 // module is the one of a text without its first two words.
 func module(t *testing.T, s string) api.Module {
@@ -39,23 +29,11 @@ func module(t *testing.T, s string) api.Module {
 	return m
 }
 
-// told is the interface of a text: its package, major and module, types and values; behind each a semicolon.
 func told(t *testing.T, s string) api.Iface {
 	t.Helper()
-	parts := strings.Split(s, "; ")
-	head := strings.Fields(parts[0])
-	major, err := strconv.Atoi(head[1])
+	x, err := sample.Told(s)
 	if err != nil {
-		t.Fatal(err)
-	}
-	x := api.Iface{Pkg: head[0], Major: major, Mod: head[2]}
-	for _, p := range parts[1:] {
-		if name, o, is := strings.Cut(p, " = "); is {
-			x.Types = append(x.Types, api.Named{Name: name, Type: typed(t, o)})
-		} else {
-			name, o, _ := strings.Cut(p, " : ")
-			x.Vals = append(x.Vals, api.Named{Name: name, Type: typed(t, o)})
-		}
+		t.Fatalf("Told(%q): %v", s, err)
 	}
 	return x
 }
@@ -68,7 +46,7 @@ func typeText(o api.Type) string {
 	return s
 }
 
-// text is what told reads.
+// text is what sample.Told reads.
 func text(x api.Iface) string {
 	var b strings.Builder
 	b.WriteString(x.Pkg + " " + strconv.Itoa(x.Major) + " " + x.Mod)
@@ -393,14 +371,6 @@ func TestArg(t *testing.T) {
 	wantTold(t, call{good.m, "p", 1, append(make([]api.Iface, 99), good.env[0])}, "p 1 m; T = <p 1 m T>; f : (Int) -> <p 1 m T>")
 }
 
-// nested is a type of n levels around another one.
-func nested(n int, o api.Type) api.Type {
-	for range n {
-		o = sample.List(o)
-	}
-	return o
-}
-
 // P10.2: expand's error of the first declaration that has one, whatever that error is.
 func TestExpandErrors(t *testing.T) {
 	env := []api.Iface{told(t, "q 1 n; T = Int; L = List(Int); R = S")}
@@ -423,7 +393,7 @@ func TestExpandErrors(t *testing.T) {
 		wantHold(t, of(t, x.s, env...))
 	}
 	// Of several errors the first declaration's is told.
-	deep := sample.Alias("L", nested(31, sample.Local("", "M")))
+	deep := sample.Alias("L", sample.Nested(31, sample.Local("", "M")))
 	wide := sample.Val("w", sample.Func(slices.Repeat([]api.Type{sample.Local("", "W")}, 20)...))
 	own := []api.Decl{sample.Alias("M", sample.List(sample.Int())), sample.Alias("W", sample.Func(slices.Repeat([]api.Type{sample.Func(sample.Int())}, 13)...)), sample.Opaque("T")}
 	gone := sample.Val("g", sample.Local("r", "U"))
@@ -441,7 +411,7 @@ func TestExpandErrors(t *testing.T) {
 	}
 	wantHold(t, call{sample.Module("m", nil, own...), "p", 1, env})
 	// ErrNone is ahead of ErrLarge in one declaration.
-	c := call{sample.Module("m", []api.Import{sample.Import("q", 1, "n", "r")}, own[0], sample.Val("v", sample.Func(nested(30, sample.Local("", "M")), sample.Local("r", "U")))), "p", 1, env}
+	c := call{sample.Module("m", []api.Import{sample.Import("q", 1, "n", "r")}, own[0], sample.Val("v", sample.Func(sample.Nested(30, sample.Local("", "M")), sample.Local("r", "U")))), "p", 1, env}
 	wantSpot(t, c, api.ErrNone, 1)
 }
 
@@ -449,7 +419,7 @@ func TestExpandErrors(t *testing.T) {
 func TestLarge(t *testing.T) {
 	for depth, code := range map[int]api.Code{29: 0, 30: 0, 31: api.ErrLarge} {
 		c := of(t, "alias A = Int alias B = List(Int) val v : Int")
-		c.m.Decls[0].Type = nested(depth, sample.Local("", "B"))
+		c.m.Decls[0].Type = sample.Nested(depth, sample.Local("", "B"))
 		if got := wantHold(t, c); got != code {
 			t.Errorf("%d levels: error %d; want %d", depth+2, got, code)
 		}
@@ -618,7 +588,7 @@ func TestMayPlaces(t *testing.T) {
 		long.Vals = append(long.Vals, api.Named{Name: "t" + n, Type: sample.Record("a", sample.Text())})
 	}
 	wantMay(t, long, true)
-	nothing := []api.Type{{}, {Kind: 10}, sample.Local("", "T"), sample.Local("r", "T"), sample.List(sample.Local("", "U")), sample.Func(), nested(32, sample.Int()), sample.Open("p", 0, "m", "T")}
+	nothing := []api.Type{{}, {Kind: 10}, sample.Local("", "T"), sample.Local("r", "T"), sample.List(sample.Local("", "U")), sample.Func(), sample.Nested(32, sample.Int()), sample.Open("p", 0, "m", "T")}
 	for i := range 300 {
 		for _, l := range [][]api.Named{long.Types, long.Vals} {
 			was := l[i]

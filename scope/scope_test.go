@@ -509,18 +509,10 @@ func imports(n int) []api.Import {
 	return l
 }
 
-// nested is a type of n levels around another one.
-func nested(n int, o api.Type) api.Type {
-	for range n {
-		o = sample.List(o)
-	}
-	return o
-}
-
 // badTypes are some that may not be.
 func badTypes() []api.Type {
 	return []api.Type{{}, {Kind: -1}, {Kind: 10}, {Kind: api.Local}, sample.Local("", "t"), sample.Local("M", "T"), sample.Local("", "Int"), {Kind: api.Int, Name: "T"}, sample.List(api.Type{}),
-		nested(32, sample.Local("", "T")), sample.Func(), sample.Func(slices.Repeat([]api.Type{sample.Local("", "T")}, 21)...), sample.Record("b a", sample.Int(), sample.Local("", "T")), sample.Open("p", 0, "m", "T"),
+		sample.Nested(32, sample.Local("", "T")), sample.Func(), sample.Func(slices.Repeat([]api.Type{sample.Local("", "T")}, 21)...), sample.Record("b a", sample.Int(), sample.Local("", "T")), sample.Open("p", 0, "m", "T"),
 		{Kind: api.Local, Name: "T", Pkg: "p"}, {Kind: api.Local, Name: "T", Subs: []api.Type{sample.Int()}}, {Kind: api.Variant}}
 }
 
@@ -579,14 +571,14 @@ func wide(names ...string) api.Type {
 func TestLarge(t *testing.T) {
 	var l []api.Decl
 	for i := range api.MaxDecls - 1 {
-		l = append(l, sample.Alias("A"+strconv.Itoa(i), nested(31, sample.Local("", "A"+strconv.Itoa(i+1)))))
+		l = append(l, sample.Alias("A"+strconv.Itoa(i), sample.Nested(31, sample.Local("", "A"+strconv.Itoa(i+1)))))
 	}
 	m := sample.Module("m", imports(20), append(l, sample.Opaque("A59"))...)
 	wantFault(t, m, 0, -1)
 	hold(t, m)
 	m.Decls[59] = sample.Hidden("A59")
 	wantFault(t, m, api.ErrHidden, 0)
-	m.Decls[59] = sample.Alias("A59", nested(31, sample.Local("", "A30")))
+	m.Decls[59] = sample.Alias("A59", sample.Nested(31, sample.Local("", "A30")))
 	wantFault(t, m, api.ErrDeep, 30)
 	hold(t, m)
 
@@ -789,10 +781,10 @@ func TestEachPlace(t *testing.T) {
 		}
 	}
 	for n := range api.MaxDepth {
-		o := nested(n, sample.Local("", "H"))
+		o := sample.Nested(n, sample.Local("", "H"))
 		wantNames(t, m, o, []string{"H"})
 		wantFault(t, sample.Module("m", m.Imports, append(slices.Clone(m.Decls), sample.Alias("A", o))...), api.ErrHidden, 2)
-		wantFault(t, sample.Module("m", nil, sample.Alias("A", nested(n, sample.Local("r", "H")))), api.ErrName, 0)
+		wantFault(t, sample.Module("m", nil, sample.Alias("A", sample.Nested(n, sample.Local("r", "H")))), api.ErrName, 0)
 	}
 }
 

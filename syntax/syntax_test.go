@@ -34,36 +34,13 @@ var (
 	alias  = sample.Alias
 	val    = sample.Val
 	module = sample.Module
+	nested = sample.Nested
+	wide   = sample.Wide
+	sized  = sample.Sized
 	isSpot = sample.IsSpot
 )
 
 func decls(l ...api.Decl) []api.Decl { return l }
-
-// deep is a type of n levels.
-func deep(n int) api.Type {
-	t := intT
-	for range n - 1 {
-		t = list(t)
-	}
-	return t
-}
-
-// wide is a Func of n Subs.
-func wide(n int, s api.Type) api.Type { return fn(slices.Repeat([]api.Type{s}, n)...) }
-
-// sized is a type of n types in all.
-func sized(n int) api.Type {
-	if n == 1 {
-		return intT
-	}
-	t := fn()
-	for left := n - 1; left > 0; {
-		take := min(left, (n-1+19)/20)
-		t.Subs = append(t.Subs, sized(take))
-		left -= take
-	}
-	return t
-}
 
 // textOf writes a module by the chapter's words, whether it may be or not.
 func textOf(t *testing.T, m api.Module) string {
@@ -238,31 +215,12 @@ func TestOrder(t *testing.T) {
 	wantParse(t, "module m val b : Int opaque B val a : Int opaque A", module("m", nil, val("b", intT), opaque("B"), val("a", intT), opaque("A")))
 }
 
-// badSmall and badGreat are no such names; words are those that lex takes as one token.
-func badSmall() (words, others []string) {
-	words = []string{"A", "aB", "Int", "T", "as", "alias", "dep", "hidden", "import", "is", "module", "opaque", "package", "use", "val", "version", strings.Repeat("a", 21), strings.Repeat("a", 300), "1", "01", ".", "=", "->", ":", "("}
-	return words, []string{"", " ", "a b", "a ", " a", "a.b", "a_b", "1a", "\u00e9", "a\x00", "-a", "a\n", "a#"}
-}
-
-func badGreat() (words, others []string) {
-	words = []string{"a", "Int", "Text", "Bool", "List", "val", "opaque", strings.Repeat("A", 21), strings.Repeat("A", 300), "1", "0", "..", ",", "{"}
-	return words, []string{"", " ", "A B", "A ", " A", "A.B", "A_B", "1A", "\u00c9", "A\x00", "m.A", "A\n"}
-}
-
-func goodSmall() []string {
-	return []string{"a", "z", "x1", "int", "list", "let", "if", "fn", "vals", "modul", "modules", "imports", "asa", strings.Repeat("a", 20), "z" + strings.Repeat("9", 19)}
-}
-
-func goodGreat() []string {
-	return []string{"A", "Z", "X1", "Point2D", "INT", "Lists", "Module", strings.Repeat("A", 20), "Z" + strings.Repeat("z", 19)}
-}
-
 // wantNames holds what may be a name, by the module that has it, and at which token it stands.
 func wantNames(t *testing.T, small bool, at int, with func(string) api.Module) {
 	t.Helper()
-	good, bad := goodGreat(), badGreat
+	good, bad := sample.GoodGreat(), sample.BadGreat
 	if small {
-		good, bad = goodSmall(), badSmall
+		good, bad = sample.GoodSmall(), sample.BadSmall
 	}
 	for _, s := range good {
 		wantMay(t, with(s))
@@ -345,8 +303,8 @@ func TestUntyped(t *testing.T) {
 }
 
 func TestTypes(t *testing.T) {
-	good := []api.Type{intT, textT, boolT, deep(32), sized(500), sized(499), wide(20, intT), local("", "T"), local("m", "T"), record(""), record("a b", intT, list(boolT)), open("p", api.MaxPart, "m", "T"), fn(intT)}
-	bad := []api.Type{{}, {Kind: -1}, {Kind: 10}, {Kind: api.Int, Name: "T"}, list(api.Type{}), deep(33), sized(501), wide(21, intT), fn(), record("b a", intT, intT), record("a", intT, intT), local("", "t"), local("M", "T"), open("p", 0, "m", "T"), {Kind: api.Variant}, {Kind: api.List}}
+	good := []api.Type{intT, textT, boolT, nested(31, intT), sized(500, intT), sized(499, intT), wide(20, intT), local("", "T"), local("m", "T"), record(""), record("a b", intT, list(boolT)), open("p", api.MaxPart, "m", "T"), fn(intT)}
+	bad := []api.Type{{}, {Kind: -1}, {Kind: 10}, {Kind: api.Int, Name: "T"}, list(api.Type{}), nested(32, intT), sized(501, intT), wide(21, intT), fn(), record("b a", intT, intT), record("a", intT, intT), local("", "t"), local("M", "T"), open("p", 0, "m", "T"), {Kind: api.Variant}, {Kind: api.List}}
 	for _, o := range good {
 		wantMay(t, module("m", nil, alias("A", o)))
 		wantMay(t, module("m", nil, val("a", o)))
@@ -532,11 +490,11 @@ func TestExprErrors(t *testing.T) {
 		wantAmiss(t, ahead+strings.Repeat(" List (", 32)+" Int", api.ErrLarge, n+64)
 		ints := strings.Repeat("Int, ", 20)
 		wantAmiss(t, ahead+" ("+ints+"Int) -> Int", api.ErrLarge, n+41)
-		l := tokens(t, textOf(t, module("m", nil, val("f", sized(500)))))[5:]
-		wantParse(t, ahead+" "+lex.Join(l), parsed(t, ahead, sized(500)))
+		l := tokens(t, textOf(t, module("m", nil, val("f", sized(500, intT)))))[5:]
+		wantParse(t, ahead+" "+lex.Join(l), parsed(t, ahead, sized(500, intT)))
 		wantAmiss(t, ahead+" () -> "+lex.Join(l), api.ErrLarge, n+3+len(l)-1)
 		// The limits are of one type alone.
-		wantParse(t, ahead+" "+lex.Join(l)+" val z : "+lex.Join(l), withVal(parsed(t, ahead, sized(500)), "z", sized(500)))
+		wantParse(t, ahead+" "+lex.Join(l)+" val z : "+lex.Join(l), withVal(parsed(t, ahead, sized(500, intT)), "z", sized(500, intT)))
 	}
 }
 
@@ -634,7 +592,7 @@ func TestEnds(t *testing.T) {
 		wantNot(t, module("", nil, val("f", o)))
 	}
 	// 60 of the largest types: a long text, and an end.
-	wantMay(t, module("m", manyImports(20), slices.Repeat(decls(val("f", sized(500))), 60)...))
+	wantMay(t, module("m", manyImports(20), slices.Repeat(decls(val("f", sized(500, intT))), 60)...))
 	wantNot(t, api.Module{})
 }
 
@@ -666,14 +624,6 @@ func shares(s, piece string) bool {
 	return from <= at && at < from+uintptr(len(s))
 }
 
-func textsOfType(t api.Type) []string {
-	l := append([]string{t.Pkg, t.Mod, t.Name}, t.Names...)
-	for _, s := range t.Subs {
-		l = append(l, textsOfType(s)...)
-	}
-	return l
-}
-
 // texts are all texts of a module.
 func texts(m api.Module) []string {
 	l := []string{m.Name}
@@ -681,7 +631,7 @@ func texts(m api.Module) []string {
 		l = append(l, i.Pkg, i.Mod, i.As)
 	}
 	for _, d := range m.Decls {
-		l = append(append(l, d.Name), textsOfType(d.Type)...)
+		l = append(append(l, d.Name), sample.TextsOfType(d.Type)...)
 	}
 	return slices.DeleteFunc(l, func(s string) bool { return s == "" })
 }
@@ -707,18 +657,6 @@ func TestNewTexts(t *testing.T) {
 	}
 }
 
-func spoilType(t api.Type) {
-	for _, s := range t.Subs {
-		spoilType(s)
-	}
-	for i := range t.Subs[:cap(t.Subs)] {
-		t.Subs[:cap(t.Subs)][i] = api.Type{Kind: -1}
-	}
-	for i := range t.Names[:cap(t.Names)] {
-		t.Names[:cap(t.Names)][i] = "spoilt"
-	}
-}
-
 // No two lists share memory: not of two answers, and not of one.
 func TestNewLists(t *testing.T) {
 	one, errOne := syntax.Parse(long)
@@ -729,14 +667,14 @@ func TestNewLists(t *testing.T) {
 	}
 	for i := range one.Decls {
 		other, _ := syntax.Parse(long)
-		spoilType(other.Decls[i].Type)
+		sample.SpoilType(other.Decls[i].Type)
 		other.Decls[i] = was.Decls[i]
 		if !sameModule(other, was) {
 			t.Errorf("the type of declaration %d shares a list with another one", i)
 		}
 	}
 	for _, d := range one.Decls {
-		spoilType(d.Type)
+		sample.SpoilType(d.Type)
 	}
 	for i := range one.Decls[:cap(one.Decls)] {
 		one.Decls[:cap(one.Decls)][i] = api.Decl{Kind: -1}
@@ -889,25 +827,6 @@ func TestAllShort(t *testing.T) {
 	}
 }
 
-// anyType is a type that may be, the same ones at each run, of at most so many levels.
-func anyType(r *rand.Rand, levels int) api.Type {
-	if levels == 1 {
-		return []api.Type{intT, textT, boolT, local("", "T"), local("m", "U"), open("p", 1+r.Intn(9), "q", "X"), record("")}[r.Intn(7)]
-	}
-	s := func() api.Type { return anyType(r, 1+r.Intn(levels-1)) }
-	switch r.Intn(5) {
-	case 0:
-		return list(s())
-	case 1:
-		return record("a b2 cc", s(), s(), s())
-	case 2:
-		return api.Type{Kind: api.Variant, Names: []string{"A", "Bb"}, Subs: []api.Type{s(), s()}}
-	case 3:
-		return fn(s())
-	}
-	return fn(s(), s(), s())
-}
-
 // anyModule is one that may be, the same ones at each run.
 func anyModule(r *rand.Rand, imports, all int) api.Module {
 	smalls, greats := strings.Fields("a b m x1 list json aa p q r"), strings.Fields("A B T U X1 Some None AA Aa")
@@ -918,7 +837,7 @@ func anyModule(r *rand.Rand, imports, all int) api.Module {
 		m.Imports = append(m.Imports, imp(small(), 1+r.Intn(1000), small(), small()))
 	}
 	for range all {
-		o := anyType(r, 1+r.Intn(4))
+		o := sample.AnyType(r.Intn, 1+r.Intn(4))
 		m.Decls = append(m.Decls, decls(opaque(great()), hidden(great()), alias(great(), o), val(small(), o))[r.Intn(4)])
 	}
 	return m
