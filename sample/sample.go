@@ -88,6 +88,25 @@ func AnyType(pick func(int) int, levels int) api.Type {
 	return Func(s(), s(), s())
 }
 
+// Looser is a type that one may stand for, or, with up false, that may stand for it; pick is as AnyType's.
+func Looser(pick func(int) int, t api.Type, up bool) api.Type {
+	t = CloneType(t)
+	for i, s := range t.Subs {
+		t.Subs[i] = Looser(pick, s, up == (t.Kind != api.Func || i == len(t.Subs)-1))
+	}
+	switch {
+	case t.Kind == api.Record && up && len(t.Subs) > 0 && pick(2) == 0:
+		t.Subs, t.Names = t.Subs[1:], t.Names[1:]
+	case t.Kind == api.Record && !up && len(t.Subs) < api.MaxSubs && pick(2) == 0:
+		t.Subs, t.Names = append(t.Subs, Int()), append(t.Names, "z"+strconv.Itoa(10+len(t.Subs)))
+	case t.Kind == api.Variant && up && len(t.Subs) < api.MaxSubs && pick(2) == 0:
+		t.Subs, t.Names = append(t.Subs, Text()), append(t.Names, "Z"+strconv.Itoa(10+len(t.Subs)))
+	case t.Kind == api.Variant && !up && len(t.Subs) > 1 && pick(2) == 0:
+		t.Subs, t.Names = t.Subs[1:], t.Names[1:]
+	}
+	return t
+}
+
 // CloneType is a type with lists of its own, at all levels.
 func CloneType(t api.Type) api.Type {
 	t.Names = slices.Clone(t.Names)
@@ -195,6 +214,18 @@ func Told(s string) (api.Iface, error) {
 		}
 	}
 	return x, err
+}
+
+// Env are the interfaces of texts, as Told reads them.
+func Env(l ...string) ([]api.Iface, error) {
+	var all []api.Iface
+	var amiss error
+	for _, s := range l {
+		x, err := Told(s)
+		amiss = errors.Join(amiss, err)
+		all = append(all, x)
+	}
+	return all, amiss
 }
 
 // CloneEnv is an environment with lists of its own, at all levels.

@@ -29,13 +29,9 @@ func said(t *testing.T, s string) api.Uses {
 // env are the interfaces of texts.
 func env(t *testing.T, l ...string) []api.Iface {
 	t.Helper()
-	var all []api.Iface
-	for _, s := range l {
-		x, err := sample.Told(s)
-		if err != nil {
-			t.Fatalf("Told(%q): %v", s, err)
-		}
-		all = append(all, x)
+	all, err := sample.Env(l...)
+	if err != nil {
+		t.Fatalf("Env(%q): %v", l, err)
 	}
 	return all
 }
@@ -688,25 +684,6 @@ func someType(r *rand.Rand, levels int, names []string) api.Type {
 	}[r.Intn(5)]()
 }
 
-// looser is a type that one may stand for, or, with up false, that may stand for it.
-func looser(r *rand.Rand, o api.Type, up bool) api.Type {
-	o.Subs, o.Names = slices.Clone(o.Subs), slices.Clone(o.Names)
-	for i, s := range o.Subs {
-		o.Subs[i] = looser(r, s, up == (o.Kind != api.Func || i == len(o.Subs)-1))
-	}
-	switch {
-	case o.Kind == api.Record && up && len(o.Subs) > 0 && r.Intn(2) == 0:
-		o.Subs, o.Names = o.Subs[1:], o.Names[1:]
-	case o.Kind == api.Record && !up && len(o.Subs) < 20 && r.Intn(2) == 0:
-		o.Subs, o.Names = append(o.Subs, intT), append(o.Names, "z"+strconv.Itoa(10+len(o.Subs)))
-	case o.Kind == api.Variant && up && len(o.Subs) < 20 && r.Intn(2) == 0:
-		o.Subs, o.Names = append(o.Subs, textT), append(o.Names, "Z"+strconv.Itoa(10+len(o.Subs)))
-	case o.Kind == api.Variant && !up && len(o.Subs) > 1 && r.Intn(2) == 0:
-		o.Subs, o.Names = o.Subs[1:], o.Names[1:]
-	}
-	return o
-}
-
 // someEnv is an environment of two interfaces, each of as many types and values.
 func someEnv(r *rand.Rand, levels int) []api.Iface {
 	var all []api.Iface
@@ -748,19 +725,19 @@ func TestMany(t *testing.T) {
 			i, k := r.Intn(2), r.Intn(3)
 			x, mod, n := c.env[i], []string{"r", "s"}[i], strconv.Itoa(k)
 			l := []api.Line{
-				use(mod, "v"+n, folded(r, c.env, looser(r, x.Vals[k].Type, true))),
-				use(mod, "v"+n, folded(r, c.env, looser(r, x.Vals[k].Type, true))),
+				use(mod, "v"+n, folded(r, c.env, sample.Looser(r.Intn, x.Vals[k].Type, true))),
+				use(mod, "v"+n, folded(r, c.env, sample.Looser(r.Intn, x.Vals[k].Type, true))),
 				is(mod, "T"+n, folded(r, c.env, x.Types[k].Type)),
 			}[r.Intn(3)]
 			switch r.Intn(25) {
 			case 0:
-				l.Type = folded(r, c.env, looser(r, l.Type, false))
+				l.Type = folded(r, c.env, sample.Looser(r.Intn, l.Type, false))
 			case 1:
 				l.Type = someType(r, 5+r.Intn(3), names)
 			case 2:
 				l.Type = someType(r, 2, append(names, "x.T0", "s.T9"))
 			case 3:
-				l.Type = looser(r, l.Type, true)
+				l.Type = sample.Looser(r.Intn, l.Type, true)
 			case 4:
 				l.Name = l.Name[:1] + strconv.Itoa(r.Intn(5))
 			}
